@@ -1,0 +1,1 @@
+"""Postvote: assignments of applicants to posts that win or tie every vote."""

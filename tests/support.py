@@ -1,0 +1,122 @@
+"""Instances, assignments and wrong values for the tests, always the same ones."""
+
+import random
+
+BIG = 10 ** 12
+
+ODD_VALUES = (
+    None, True, False, -1, 0, 1, 2, 5, 6, 7, BIG, BIG + 1, -BIG, 10 ** 29,
+    "", "0", "instance", "posts 1 1\n2: 0 1", (), (0,), (1,), (0, 0), (0, 1), ((),), ((0,), 1),
+    [], [0], [1, 1], [(0,), 1], [[1], [[[0], 1]]], {}, {"posts": (1,)}, {"a": [True, None]},
+)
+
+
+def generator(seed):
+    return random.Random(seed)
+
+
+def some_count(rng, most):
+    return rng.choice((1, 2, 3, rng.randint(1, most), most))
+
+
+def some_list(rng, post_count):
+    return tuple(rng.sample(range(post_count), rng.randint(0, post_count)))
+
+
+def some_groups(rng, post_count, most):
+    lists = [some_list(rng, post_count) for at in range(rng.randint(1, 10))]
+    # Equal lists are allowed, and long lists hardly ever meet by chance.
+    return tuple((rng.choice(lists), some_count(rng, most)) for at in lists)
+
+
+def some_instance(rng, most=4):
+    post_count = rng.randint(1, 6)
+    posts = tuple(some_count(rng, most) for at in range(post_count))
+    return posts, some_groups(rng, post_count, most)
+
+
+def near_instance(rng, most=4):
+    """An instance whose capacities are one less than the demand, equal to it, or one more."""
+    post_count = rng.randint(1, 6)
+    groups = some_groups(rng, post_count, most)
+    posts = []
+    for post in range(post_count):
+        demand = sum(count for ranked, count in groups if ranked[:1] == (post,))
+        posts.append(min(BIG, max(1, demand + rng.choice((-1, 0, 1)))))
+    return tuple(posts), groups
+
+
+def some_assignment(rng, instance):
+    """Fills the options of each group in a random order, as far as there is room."""
+    room = list(instance[0])
+    shares = []
+    for posts, count in instance[1]:
+        share = [0] * (len(posts) + 1)
+        for option in rng.sample(range(len(posts)), len(posts)):
+            number = min(room[posts[option]], count - sum(share))
+            share[option] = rng.choice((0, number, rng.randint(0, number)))
+            room[posts[option]] -= share[option]
+        share[-1] = count - sum(share)
+        shares.append(tuple(share))
+    return tuple(shares)
+
+
+def small_assignments(instance):
+    """All assignments, found by giving one applicant after the other each option in turn."""
+    options = [posts for posts, count in instance[1] for applicant in range(count)]
+    owners = [number for number, group in enumerate(instance[1]) for applicant in range(group[1])]
+    found = {tuple((0,) * (len(posts) + 1) for posts, count in instance[1])}
+    for posts, owner in zip(options, owners):
+        found = {
+            replaced(table, (owner, option), table[owner][option] + 1)
+            for table in found
+            for option in range(len(posts) + 1)
+            if option == len(posts) or places_left(instance, table, posts[option]) > 0
+        }
+    return found
+
+
+def places_left(instance, table, post):
+    taken = 0
+    for (posts, count), share in zip(instance[1], table):
+        if post in posts:
+            taken += share[posts.index(post)]
+    return instance[0][post] - taken
+
+
+def paths(value):
+    """The paths of all parts of nested tuples, the whole first."""
+    found = [()]
+    if isinstance(value, tuple):
+        for at, part in enumerate(value):
+            found.extend((at,) + path for path in paths(part))
+    return found
+
+
+def part_at(value, path):
+    for at in path:
+        value = value[at]
+    return value
+
+
+def replaced(value, path, part):
+    if path == ():
+        return part
+    at = path[0]
+    return value[:at] + (replaced(value[at], path[1:], part),) + value[at + 1:]
+
+
+def spoiled(rng, value):
+    """The value with one part replaced, removed, repeated, or turned into another kind."""
+    path = rng.choice(paths(value))
+    part = part_at(value, path)
+    ways = [rng.choice(ODD_VALUES)]
+    if isinstance(part, tuple):
+        ways.append(list(part))
+        if part:
+            at = rng.randrange(len(part))
+            ways.append(part[:at] + part[at + 1:])
+            ways.append(part[:at] + part[at:at + 1] + part[at:])
+    elif isinstance(part, int):
+        ways.extend((part + 1, part - 1, -part, bool(part), str(part)))
+    return replaced(value, path, rng.choice(ways))

@@ -1,0 +1,22 @@
+import unittest
+
+from postvote.checks import is_tuple_of, is_whole, is_within
+
+
+class Checks(unittest.TestCase):
+    def test_an_integer_is_an_int_that_is_not_a_bool(self):
+        for value in (0, 1, -1, 10 ** 30):
+            self.assertIs(is_whole(value), True)
+        for value in (True, False, None, "1", (1,), [1], {}):
+            self.assertIs(is_whole(value), False)
+
+    def test_the_ends_of_a_range_belong_to_it(self):
+        self.assertEqual([is_within(value, 0, 2) for value in (-1, 0, 1, 2, 3)], [False, True, True, True, False])
+        for value in (True, False, None, "1", (1,), [1], {}):
+            self.assertIs(is_within(value, 0, 2), False)
+
+    def test_a_tuple_of_some_items(self):
+        sizes = [is_tuple_of((0,) * size, 1, 3) for size in range(5)]
+        self.assertEqual(sizes, [False, True, True, True, False])
+        for value in (None, True, 2, "ab", [0, 0], {"a": 1, "b": 2}):
+            self.assertIs(is_tuple_of(value, 1, 3), False)

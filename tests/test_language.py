@@ -1,0 +1,119 @@
+"""The rules of LANGUAGE.md that a look at single nodes can decide. It does not replace reading them."""
+
+import ast
+import builtins
+import pathlib
+import re
+import unittest
+
+PACKAGE = pathlib.Path(__file__).resolve().parent.parent / "postvote"
+ALLOWED_BUILTINS = set(
+    "len range enumerate zip min max sum abs sorted reversed int str bool bytes list tuple dict set frozenset "
+    "isinstance ord repr any all divmod iter next super property staticmethod classmethod Exception ValueError "
+    "TypeError KeyError IndexError LookupError ZeroDivisionError ArithmeticError OverflowError RuntimeError "
+    "NotImplementedError NotImplemented AttributeError StopIteration object float".split()
+)
+BARRED_WORDS = re.compile(
+    r"\b(type|typing|typing_extensions|enum|Enum|IntEnum|StrEnum|Flag|IntFlag|Generic|Protocol|ABC|ABCMeta|"
+    r"namedtuple|NamedTuple|TypedDict|TYPE_CHECKING|abstractmethod)\b|dataclass|overload|contextmanager"
+)
+BARRED_NAMES = set(
+    "register mro elements open input version_info with_traceback add_note attrgetter breakpoint builtins compile "
+    "copyright credits delattr dir eval exec exit gc getattr globals hasattr help id importlib license locals "
+    "methodcaller os quit setattr type vars sys".split()
+)
+BARRED_NODES = (
+    ast.Global, ast.AsyncFunctionDef, ast.AsyncFor, ast.AsyncWith, ast.Await, ast.Import, ast.Div,
+)
+GENERATOR_TAKERS = ("any", "all", "min", "max", "sum", "sorted")
+
+
+def node_faults(node):
+    """The rules that one node breaks by itself."""
+    if isinstance(node, BARRED_NODES):
+        yield "L2, L6 or L7"
+    if isinstance(node, ast.Constant) and isinstance(node.value, (float, complex)):
+        yield "L7"
+    if isinstance(node, ast.ImportFrom) and (node.level or not node.module.startswith("postvote.")):
+        yield "L2"
+    if isinstance(node, ast.FunctionDef) and node.end_lineno - node.lineno + 1 > 40:
+        yield "L10"
+    if isinstance(node, ast.Compare):
+        for sign, other in zip(node.ops, node.comparators):
+            if isinstance(sign, (ast.Is, ast.IsNot)) and not isinstance(other, ast.Constant):
+                yield "L20"
+    if isinstance(node, ast.Call) and isinstance(node.func, ast.Name) and node.func.id in GENERATOR_TAKERS:
+        # Bench has __eq__, so these take lists throughout.
+        if any(isinstance(part, ast.GeneratorExp) for part in node.args):
+            yield "L7 generator"
+    if isinstance(node, ast.ExceptHandler):
+        named = node.type.elts if isinstance(node.type, ast.Tuple) else [node.type]
+        if not all(isinstance(one, ast.Name) and one.id not in ("Exception", "TypeError") for one in named):
+            yield "L19"
+
+
+def bound_names(node):
+    if isinstance(node, ast.Name) and isinstance(node.ctx, ast.Store):
+        yield node.id
+    elif isinstance(node, ast.arg):
+        yield node.arg
+    elif isinstance(node, (ast.FunctionDef, ast.ClassDef)):
+        yield node.name
+    elif isinstance(node, ast.alias):
+        yield node.asname or node.name
+
+
+def name_faults(tree):
+    methods = {id(part) for node in ast.walk(tree) if isinstance(node, ast.ClassDef) for part in node.body}
+    for node in ast.walk(tree):
+        if isinstance(node, ast.Name) and isinstance(node.ctx, ast.Load):
+            if hasattr(builtins, node.id) and node.id not in ALLOWED_BUILTINS:
+                yield node, "L8 " + node.id
+        for name in bound_names(node):
+            if id(node) in methods and name.startswith("__"):
+                continue
+            if name.startswith("_") or not re.fullmatch("[A-Za-z0-9_]+", name):
+                yield node, "L12 " + name
+            if name in BARRED_NAMES or (id(node) not in methods and hasattr(builtins, name)):
+                yield node, "L15 or L17 " + name
+
+
+def tree_faults(tree):
+    for node in ast.walk(tree):
+        for rule in node_faults(node):
+            yield node, rule
+    yield from name_faults(tree)
+    allowed = (ast.Expr, ast.ImportFrom, ast.FunctionDef, ast.ClassDef, ast.Assign)
+    for at, node in enumerate(tree.body):
+        if not isinstance(node, allowed) or (isinstance(node, ast.Expr) and at > 0):
+            yield node, "L3"
+
+
+def text_faults(text):
+    lines = text.split("\n")
+    if len(lines) > 401:
+        yield 401, "L10"
+    for number, line in enumerate(lines, 1):
+        if len(line) > 120:
+            yield number, "L10"
+        if re.search("[^ -~]", line):
+            yield number, "L14"
+        if BARRED_WORDS.search(line):
+            yield number, "L17"
+
+
+class Language(unittest.TestCase):
+    def test_files(self):
+        found = [path for path in PACKAGE.rglob("*") if "__pycache__" not in path.parts]
+        self.assertIn(PACKAGE / "__init__.py", found)
+        for path in found:
+            self.assertRegex(path.name, r"\A(__init__|[a-z][a-z0-9_]*)\.py\Z")
+
+    def test_rules(self):
+        faults = []
+        for path in sorted(PACKAGE.glob("*.py")):
+            text = path.read_text("ascii")
+            faults.extend((path.name, line, rule) for line, rule in text_faults(text))
+            for node, rule in tree_faults(ast.parse(text)):
+                faults.append((path.name, getattr(node, "lineno", 0), rule))
+        self.assertEqual(faults, [])
