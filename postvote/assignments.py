@@ -1,6 +1,6 @@
 """Assignments: how many applicants of each group have each of its options."""
 
-from postvote.checks import is_tuple_of, is_within
+from postvote.checks import is_split, is_tuple_of
 
 
 def is_assignment(instance, value):
@@ -8,17 +8,9 @@ def is_assignment(instance, value):
     capacities, groups = instance
     if not is_tuple_of(value, len(groups), len(groups)):
         return False
-    if not all([is_share(group, share) for group, share in zip(groups, value)]):
+    if not all([is_split(share, len(posts) + 1, count) for (posts, count), share in zip(groups, value)]):
         return False
     return all([load <= capacity for load, capacity in zip(post_loads(instance, value), capacities)])
-
-
-def is_share(group, value):
-    """Whether any value distributes all applicants of the group among its options."""
-    posts, count = group
-    if not is_tuple_of(value, len(posts) + 1, len(posts) + 1):
-        return False
-    return all([is_within(number, 0, count) for number in value]) and sum(value) == count
 
 
 def post_loads(instance, assignment):

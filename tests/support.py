@@ -46,6 +46,33 @@ def near_instance(rng, most=4):
     return tuple(posts), groups
 
 
+def small_instance(rng, most=5):
+    """An instance of at most so many applicants: all that they can do can be tried."""
+    post_count = rng.randint(1, 3)
+    posts = tuple(rng.choice((1, 1, 2, 3)) for at in range(post_count))
+    lists = [some_list(rng, post_count), tuple(range(post_count))]
+    groups = []
+    left = rng.randint(1, most)
+    while left > 0:
+        count = rng.randint(1, left)
+        groups.append((rng.choice((*lists, some_list(rng, post_count))), count))
+        left -= count
+    return posts, tuple(groups)
+
+
+def wide_instance(rng, most=4):
+    """An instance of the greatest size, in which every list has all posts."""
+    posts = tuple(some_count(rng, most) for at in range(6))
+    return posts, tuple((tuple(rng.sample(range(6), 6)), some_count(rng, most)) for at in range(10))
+
+
+def many_instances(rng, turns):
+    """Instances of all sorts, with small numbers and great ones."""
+    for turn in range(turns):
+        make = rng.choice((some_instance, some_instance, near_instance, near_instance, wide_instance))
+        yield make(rng, rng.choice((2, 4, 30, BIG)))
+
+
 def some_assignment(rng, instance):
     """Fills the options of each group in a random order, as far as there is room."""
     room = list(instance[0])
@@ -84,6 +111,45 @@ def places_left(instance, table, post):
     return instance[0][post] - taken
 
 
+def some_change(rng, assignment, target):
+    """A change that leads from one assignment to another, filled in a random order."""
+    tables = []
+    for share, wanted in zip(assignment, target):
+        size = len(share)
+        table = [[0] * size for option in range(size)]
+        have, need = list(share), list(wanted)
+        for start, end in rng.sample([(i, j) for i in range(size) for j in range(size)], size * size):
+            number = min(have[start], need[end])
+            table[start][end] = number
+            have[start] -= number
+            need[end] -= number
+        tables.append(tuple(map(tuple, table)))
+    return tuple(tables)
+
+
+def small_changes(instance, assignment):
+    """All changes with their surplus, found by giving one applicant after the other each option in turn."""
+    found = {tuple(((0,) * len(share),) * len(share) for share in assignment): (0, (0,) * len(instance[0]))}
+    for group, share in enumerate(assignment):
+        posts = instance[1][group][0]
+        for start in [option for option, number in enumerate(share) for applicant in range(number)]:
+            found = {
+                replaced(tables, (group, start, end), tables[group][start][end] + 1):
+                    (surplus + (start > end) - (start < end), with_one_more(loads, posts[end:end + 1]))
+                for tables, (surplus, loads) in found.items()
+                for end in range(len(share))
+            }
+    return {
+        tables: surplus
+        for tables, (surplus, loads) in found.items()
+        if all(load <= capacity for load, capacity in zip(loads, instance[0]))
+    }
+
+
+def with_one_more(loads, posts):
+    return tuple(load + (post in posts) for post, load in enumerate(loads))
+
+
 def paths(value):
     """The paths of all parts of nested tuples, the whole first."""
     found = [()]
@@ -120,3 +186,10 @@ def spoiled(rng, value):
     elif isinstance(part, int):
         ways.extend((part + 1, part - 1, -part, bool(part), str(part)))
     return replaced(value, path, rng.choice(ways))
+
+
+def plain(value):
+    """The kinds of all parts, since True equals 1 and False equals 0."""
+    if isinstance(value, (tuple, list)):
+        return type(value), [plain(part) for part in value]
+    return type(value), value

@@ -1,6 +1,6 @@
 import unittest
 
-from postvote.checks import is_tuple_of, is_whole, is_within
+from postvote.checks import is_split, is_tuple_of, is_whole, is_within
 
 
 class Checks(unittest.TestCase):
@@ -20,3 +20,15 @@ class Checks(unittest.TestCase):
         self.assertEqual(sizes, [False, True, True, True, False])
         for value in (None, True, 2, "ab", [0, 0], {"a": 1, "b": 2}):
             self.assertIs(is_tuple_of(value, 1, 3), False)
+
+    def test_a_split_of_a_total(self):
+        for value in ((0, 0, 3), (3, 0, 0), (1, 1, 1)):
+            self.assertIs(is_split(value, 3, 3), True)
+        wrong = (
+            (1, 1, 2), (0, 1, 1), (4, -1, 0), (-1, 2, 2), (True, 1, 1), (3, False, 0), (3, None, 0), (3, "", 0),
+            (3, 0), (3, 0, 0, 0), (), [1, 1, 1], ((1, 1, 1),), None, 3, "111", {},
+        )
+        for value in wrong:
+            self.assertIs(is_split(value, 3, 3), False)
+        self.assertIs(is_split((), 0, 0), True)
+        self.assertIs(is_split((10 ** 12, 0), 2, 10 ** 12), True)

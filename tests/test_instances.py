@@ -6,7 +6,7 @@ from postvote.instances import (
     reserve_option,
 )
 from tests.support import (
-    BIG, ODD_VALUES, generator, near_instance, part_at, paths, replaced, some_instance, spoiled,
+    BIG, ODD_VALUES, generator, near_instance, part_at, paths, plain, replaced, some_instance, spoiled,
 )
 
 I = ((1, 1), (((0, 1), 2),))
@@ -66,13 +66,6 @@ def expected_error(value):
         if not number_from_1(group[1]):
             found.append(((1, at, 1), "count"))
     return found[0] if found else None
-
-
-def plain(value):
-    """The kinds of all parts, since True equals 1 and False equals 0."""
-    if isinstance(value, (tuple, list)):
-        return type(value), [plain(part) for part in value]
-    return type(value), value
 
 
 class InstanceErrors(unittest.TestCase):

@@ -102,6 +102,24 @@ def text_faults(text):
             yield number, "L17"
 
 
+BUILTIN_METHODS = set(
+    "append clear copy count endswith extend find get index insert isalnum isalpha isdigit islower isspace isupper "
+    "items join keys ljust lower lstrip partition pop remove replace reverse rfind rjust rpartition rsplit rstrip "
+    "setdefault split splitlines startswith strip update upper values zfill bit_length add discard sort".split()
+)
+
+
+def class_names(trees):
+    """The names of all methods, of all attributes that are assigned, and of all that are read."""
+    methods, assigned, read = set(), set(), set()
+    for node in [node for tree in trees for node in ast.walk(tree)]:
+        if isinstance(node, ast.ClassDef):
+            methods.update(part.name for part in node.body if isinstance(part, ast.FunctionDef))
+        elif isinstance(node, ast.Attribute):
+            (assigned if isinstance(node.ctx, ast.Store) else read).add(node.attr)
+    return methods, assigned, read
+
+
 class Language(unittest.TestCase):
     def test_files(self):
         found = [path for path in PACKAGE.rglob("*") if "__pycache__" not in path.parts]
@@ -117,3 +135,9 @@ class Language(unittest.TestCase):
             for node, rule in tree_faults(ast.parse(text)):
                 faults.append((path.name, getattr(node, "lineno", 0), rule))
         self.assertEqual(faults, [])
+
+    def test_methods_and_attributes(self):
+        trees = [ast.parse(path.read_text("ascii")) for path in PACKAGE.glob("*.py")]
+        methods, assigned, read = class_names(trees)
+        self.assertEqual(methods & assigned, set())
+        self.assertEqual(read - methods - assigned - BUILTIN_METHODS, set())
