@@ -63,3 +63,13 @@ def stay_row(share, option):
 def reverse_change(change):
     """The change of the result that takes everybody back."""
     return tuple([tuple([tuple(column) for column in zip(*table)]) for table in change])
+
+
+def gathered_tables(assignment, rows):
+    """The tables that consist of these rows, one for each option of each group, in order."""
+    tables = []
+    done = 0
+    for share in assignment:
+        tables.append(tuple(rows[done:done + len(share)]))
+        done += len(share)
+    return tuple(tables)

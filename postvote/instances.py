@@ -54,6 +54,16 @@ def is_post_list(value, post_count):
     return len(set(value)) == len(value)
 
 
+def is_post(instance, value):
+    """Whether any value is the number of a post."""
+    return is_within(value, 0, len(instance[0]) - 1)
+
+
+def is_group(instance, value):
+    """Whether any value is the number of a group."""
+    return is_within(value, 0, len(instance[1]) - 1)
+
+
 def option_post(instance, group, option):
     """The post of an option of a group, or None for its last option."""
     posts = instance[1][group][0]

@@ -1,6 +1,6 @@
 """Margins: the greatest surplus of a change, and prices that show that none is greater."""
 
-from postvote.changes import change_surplus, is_change, vote
+from postvote.changes import change_surplus, gathered_tables, is_change, vote
 from postvote.checks import is_tuple_of, is_whole, is_within
 from postvote.transports import option_columns, post_transport
 
@@ -29,13 +29,7 @@ def margin(instance, assignment):
 def margin_certificate(instance, assignment):
     """A tuple (margin, change, prices): the margin, a change with this surplus, prices with this limit."""
     transport = vote_transport(instance, assignment)
-    rows = [tuple(numbers.values()) for numbers in transport.plan]
-    tables = []
-    done = 0
-    for share in assignment:
-        tables.append(tuple(rows[done:done + len(share)]))
-        done += len(share)
-    change = tuple(tables)
+    change = gathered_tables(assignment, [tuple(numbers.values()) for numbers in transport.plan])
     # The last column is no post, which has no price. An applicant can always leave for it, and that costs
     # at most HIGHEST votes, so no price is greater.
     prices = tuple(transport.column_prices(HIGHEST)[:-1])

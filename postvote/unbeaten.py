@@ -2,11 +2,11 @@
 
 from postvote.assignments import is_assignment
 from postvote.checks import is_tuple_of, is_whole
-from postvote.errors import BadPosts
+from postvote.errors import BadPosts, NoUnbeaten
 from postvote.instances import (
     claimed_posts, crowded_posts, demands, excesses, free_places, option_post, reserve_option,
 )
-from postvote.transports import option_columns, post_transport
+from postvote.reserves import group_rows, planned_numbers, reserve_transport
 
 
 def is_unbeaten(instance, assignment):
@@ -72,34 +72,12 @@ def escape_count(instance, crowded, reserves):
 
 def find_verdict(instance):
     """An unbeaten assignment as ("unbeaten", assignment), or ("shortage", crowded, reserves)."""
-    transport = post_transport(instance)
-    crowded = crowded_posts(instance)
-    for group in range(len(instance[1])):
-        full = transport.add_row(instance[1][group][1], usable_columns(instance, group, crowded))
-        if full is not None:
-            # The rows in these columns can use no others, and with the rest of this row they do not fit.
-            reserves = tuple([post for post in full if post not in crowded])
-            return ("shortage", tuple([post for post in full if post in crowded]), reserves)
-    return ("unbeaten", planned_assignment(instance, transport.plan))
-
-
-def usable_columns(instance, group, crowded):
-    """The columns of option 0 and, if that is crowded, of the reserve option, with their costs.
-
-    The reserve option costs more, so a cheapest plan fills each crowded post with applicants who rank it first.
-    """
-    columns = option_columns(instance, group)
-    if columns[0] not in crowded:
-        return {columns[0]: 0}
-    return {columns[0]: 0, columns[reserve_option(instance, group)]: 1}
-
-
-def planned_assignment(instance, plan):
-    """The assignment in which each group has the numbers of its row of the plan."""
-    return tuple([
-        tuple([numbers.get(column, 0) for column in option_columns(instance, group)])
-        for group, numbers in enumerate(plan)
-    ])
+    try:
+        transport = reserve_transport(instance, group_rows(instance, [1] * len(instance[1])))
+    except NoUnbeaten as e:
+        return ("shortage", e.crowded, e.reserves)
+    shares = [planned_numbers(instance, group, numbers) for group, numbers in enumerate(transport.plan)]
+    return ("unbeaten", tuple(shares))
 
 
 def verdict_holds(instance, value):

@@ -66,6 +66,31 @@ def wide_instance(rng, most=4):
     return posts, tuple((tuple(rng.sample(range(6), 6)), some_count(rng, most)) for at in range(10))
 
 
+def crowded_instance(rng, most=4):
+    """An instance with crowded posts and free places, which often has several vectors."""
+    order = rng.sample(range(6), rng.randint(2, 6))
+    order = [sorted(order).index(post) for post in order]
+    homes = order[:rng.randint(1, len(order) - 1)]
+    groups = []
+    for at in range(rng.randint(1, 10)):
+        posts = rng.sample(homes, 1) + rng.sample(order[len(homes):], rng.randint(0, len(order) - len(homes)))
+        if rng.random() < 0.3 and len(homes) > 1:
+            posts.insert(1, rng.choice([post for post in homes if post != posts[0]]))
+        groups.append((tuple(posts), some_count(rng, most)))
+    posts = [rng.randint(1, most) for post in order]
+    for post in homes:
+        demand = sum(count for ranked, count in groups if ranked[0] == post)
+        posts[post] = min(BIG, max(1, demand - rng.choice((1, 2, demand // 3, demand // 2))))
+    return tuple(posts), tuple(groups)
+
+
+def many_crowded(rng, turns):
+    """Crowded instances with small numbers and great ones, and instances of all sorts."""
+    for turn in range(turns):
+        make = rng.choice((crowded_instance, crowded_instance, crowded_instance, some_instance, near_instance))
+        yield make(rng, rng.choice((2, 4, 30, BIG)))
+
+
 def many_instances(rng, turns):
     """Instances of all sorts, with small numbers and great ones."""
     for turn in range(turns):

@@ -1,11 +1,13 @@
 import copy
-import itertools
 import unittest
 
 from postvote.assignments import is_assignment
 from postvote.errors import BadPosts
 from postvote.margins import margin
 from postvote.unbeaten import find_verdict, is_unbeaten, shortfall, verdict_holds
+from tests.reference import (
+    all_pairs, both_conditions, counted_shortfall, greatest_shortfall, sorted_out, subsets,
+)
 from tests.support import (
     BIG, ODD_VALUES, generator, many_instances, near_instance, part_at, paths, plain, replaced, small_assignments,
     small_changes, small_instance, some_assignment, some_instance, spoiled,
@@ -19,69 +21,6 @@ WIDE = (
     (2, 3, 4, 5, 6, 7),
     (((0, 2, 3), 3), ((0, 1, 4), 2), ((1, 0, 3), 4), ((1,), 1), ((2, 5), 4), ((5, 0), 1), ((), 9)),
 )
-
-
-def wishes(instance):
-    """How many applicants rank each post first."""
-    found = [0] * len(instance[0])
-    for posts, count in instance[1]:
-        if posts:
-            found[posts[0]] += count
-    return found
-
-
-def reserve(instance, posts):
-    """The reserve option of a list that is not empty."""
-    wanted = wishes(instance)
-    for option, post in enumerate(posts):
-        if option and wanted[post] < instance[0][post]:
-            return option
-    return len(posts)
-
-
-def both_conditions(instance, assignment):
-    """The two conditions of point 10, applicant by applicant of each sort."""
-    firsts = [0] * len(instance[0])
-    for (posts, count), share in zip(instance[1], assignment):
-        if posts:
-            if share[0] + share[reserve(instance, posts)] != count:
-                return False
-            firsts[posts[0]] += share[0]
-    return firsts == [min(pair) for pair in zip(wishes(instance), instance[0])]
-
-
-def sorted_out(instance):
-    """The crowded posts, and the posts that are not claimed."""
-    pairs = list(zip(wishes(instance), instance[0]))
-    crowded = tuple(post for post, (wanted, places) in enumerate(pairs) if wanted > places)
-    return crowded, tuple(post for post, (wanted, places) in enumerate(pairs) if wanted < places)
-
-
-def subsets(posts):
-    return [part for size in range(len(posts) + 1) for part in itertools.combinations(posts, size)]
-
-
-def all_pairs(instance):
-    crowded, unclaimed = sorted_out(instance)
-    return itertools.product(subsets(crowded), subsets(unclaimed))
-
-
-def counted_shortfall(instance, crowded, reserves):
-    """Those who cannot have their first post, minus those with another way out, minus the places."""
-    capacities, groups = instance
-    wanted = wishes(instance)
-    total = sum(wanted[post] - capacities[post] for post in crowded)
-    total += sum(wanted[post] - capacities[post] for post in reserves)
-    for posts, count in groups:
-        if posts and posts[0] in crowded:
-            fallback = (*posts, None)[reserve(instance, posts)]
-            if fallback is None or fallback not in reserves:
-                total -= count
-    return total
-
-
-def greatest_shortfall(instance):
-    return max(counted_shortfall(instance, *pair) for pair in all_pairs(instance))
 
 
 def expected_holds(instance, value):
