@@ -2,7 +2,7 @@
 
 from postvote.bounds import BIG, GROUPS, POSTS
 from postvote.checks import is_within
-from postvote.errors import BadList, BadNumber, NoGroup, NoPost, TooGreat, TooMany
+from postvote.errors import BadList, BadNumber, LastOne, NoGroup, NoPost, TooGreat, TooMany
 from postvote.instances import is_group, is_post, is_post_list, reserve_option
 
 
@@ -103,3 +103,47 @@ def join_instances(first, second):
     shift = len(first[0])
     groups = [(tuple([post + shift for post in posts]), count) for posts, count in second[1]]
     return first[0] + second[0], first[1] + tuple(groups)
+
+
+def with_group(instance, posts, count):
+    """The instance with a new last group. Raises BadList, then BadNumber, then TooMany."""
+    if not is_post_list(posts, len(instance[0])):
+        raise BadList(posts)
+    if not is_within(count, 1, BIG):
+        raise BadNumber(count)
+    if len(instance[1]) >= GROUPS:
+        raise TooMany(GROUPS)
+    return instance[0], instance[1] + ((posts, count),)
+
+
+def without_group(instance, group):
+    """The instance without a group. Raises NoGroup, then LastOne."""
+    if not is_group(instance, group):
+        raise NoGroup(group)
+    if len(instance[1]) == 1:
+        raise LastOne()
+    return instance[0], instance[1][:group] + instance[1][group + 1:]
+
+
+def with_post(instance, capacity):
+    """The instance with a new last post. Raises BadNumber, then TooMany."""
+    if not is_within(capacity, 1, BIG):
+        raise BadNumber(capacity)
+    if len(instance[0]) >= POSTS:
+        raise TooMany(POSTS)
+    return instance[0] + (capacity,), instance[1]
+
+
+def without_post(instance, post):
+    """The instance without a post, also in all lists. Raises NoPost, then LastOne."""
+    if not is_post(instance, post):
+        raise NoPost(post)
+    if len(instance[0]) == 1:
+        raise LastOne()
+    groups = [(posts_without(posts, post), count) for posts, count in instance[1]]
+    return instance[0][:post] + instance[0][post + 1:], tuple(groups)
+
+
+def posts_without(posts, gone):
+    """The list without a post; the posts behind that one have their numbers decreased by 1."""
+    return tuple([post - 1 if post > gone else post for post in posts if post != gone])

@@ -2,6 +2,8 @@
 
 import itertools
 
+from tests.support import BIG
+
 
 def wishes(instance):
     """How many applicants rank each post first."""
@@ -105,3 +107,62 @@ def tried_vectors(instance):
     """All vectors in ascending order, found by trying all tuples."""
     tuples = itertools.product(*[range(count + 1) for posts, count in instance[1]])
     return [one for one in tuples if right_vector(instance, one)]
+
+
+def right_number(value, most=BIG):
+    return type(value) is int and 1 <= value <= most
+
+
+def right_index(value, size):
+    return type(value) is int and 0 <= value < size
+
+
+def right_list(value, size):
+    if type(value) is not tuple or any(type(post) is not int for post in value):
+        return False
+    return all(0 <= post < size for post in value) and len(set(value)) == len(value)
+
+
+def edit_error(instance, edit):
+    """The name and the fields of the first error that an edit of the instance raises, or None."""
+    posts, groups = [len(part) for part in instance]
+    word, one, two = (*edit, None)[:3]
+    faults = {
+        "set_capacity": (("NoPost", right_index(one, posts), one), ("BadNumber", right_number(two), two)),
+        "set_count": (("NoGroup", right_index(one, groups), one), ("BadNumber", right_number(two), two)),
+        "set_list": (("NoGroup", right_index(one, groups), one), ("BadList", right_list(two, posts), two)),
+        "add_group": (
+            ("BadList", right_list(one, posts), one), ("BadNumber", right_number(two), two), ("TooMany", groups < 10, 10),
+        ),
+        "remove_group": (("NoGroup", right_index(one, groups), one), ("LastOne", groups > 1)),
+        "add_post": (("BadNumber", right_number(one), one), ("TooMany", posts < 6, 6)),
+        "remove_post": (("NoPost", right_index(one, posts), one), ("LastOne", posts > 1)),
+    }
+    for name, right, *fields in faults[word]:
+        if not right:
+            return name, fields
+    return None
+
+
+def edit_result(instance, edit):
+    """The instance after a right edit."""
+    posts, groups = list(instance[0]), [list(group) for group in instance[1]]
+    word, *values = edit
+    if word == "set_capacity":
+        posts[values[0]] = values[1]
+    elif word == "set_count":
+        groups[values[0]][1] = values[1]
+    elif word == "set_list":
+        groups[values[0]][0] = values[1]
+    elif word == "add_group":
+        groups.append(values)
+    elif word == "remove_group":
+        groups.pop(values[0])
+    elif word == "add_post":
+        posts.append(values[0])
+    else:
+        posts.pop(values[0])
+        numbers = [post for post in range(len(posts) + 1) if post != values[0]]
+        for group in groups:
+            group[0] = tuple(numbers.index(post) for post in group[0] if post in numbers)
+    return tuple(posts), tuple(tuple(group) for group in groups)

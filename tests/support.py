@@ -11,6 +11,9 @@ ODD_VALUES = (
 )
 
 
+WORDS = ("set_capacity", "set_count", "set_list", "add_group", "remove_group", "add_post", "remove_post")
+
+
 def generator(seed):
     return random.Random(seed)
 
@@ -173,6 +176,19 @@ def small_changes(instance, assignment):
 
 def with_one_more(loads, posts):
     return tuple(load + (post in posts) for post, load in enumerate(loads))
+
+
+def some_edit(rng, instance, most=4):
+    """An edit of the instance; now and then a wrong one."""
+    posts, groups = len(instance[0]), len(instance[1])
+    post = rng.randrange(posts + (rng.random() < 0.1))
+    group = rng.randrange(groups + (rng.random() < 0.1))
+    number = rng.choice((1, most, rng.randint(1, most), rng.randint(1, most), 0 if rng.random() < 0.2 else 2))
+    ranked = some_list(rng, posts + (rng.random() < 0.1))
+    return rng.choice((
+        ("set_capacity", post, number), ("set_count", group, number), ("set_list", group, ranked),
+        ("add_group", ranked, number), ("remove_group", group), ("add_post", number), ("remove_post", post),
+    ))
 
 
 def paths(value):

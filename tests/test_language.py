@@ -78,7 +78,33 @@ def name_faults(tree):
                 yield node, "L15 or L17 " + name
 
 
+def shadow_faults(tree):
+    """Parameters and local variables that have the name of a class or an import of the file."""
+    taken = {name for node in tree.body if isinstance(node, ast.ImportFrom) for part in node.names
+             for name in bound_names(part)}
+    taken |= {node.name for node in tree.body if isinstance(node, ast.ClassDef)}
+    for function in [node for node in ast.walk(tree) if isinstance(node, ast.FunctionDef)]:
+        for node in ast.walk(function):
+            if isinstance(node, (ast.Name, ast.arg)) and taken.intersection(bound_names(node)):
+                yield node, "L15 shadow"
+
+
+def finally_faults(node):
+    """What a finally contains other than plain assignments of names, attributes and literals."""
+    for part in node.finalbody:
+        if not isinstance(part, ast.Assign) or len(part.targets) != 1:
+            yield part, "L6 finally"
+            continue
+        kinds = (ast.Name, ast.Attribute, ast.Constant, ast.Tuple, ast.Load, ast.Store, ast.Assign)
+        if not all(isinstance(one, kinds) for one in ast.walk(part)):
+            yield part, "L6 finally"
+
+
 def tree_faults(tree):
+    yield from shadow_faults(tree)
+    for node in ast.walk(tree):
+        if isinstance(node, ast.Try):
+            yield from finally_faults(node)
     for node in ast.walk(tree):
         for rule in node_faults(node):
             yield node, rule
@@ -105,7 +131,7 @@ def text_faults(text):
 BUILTIN_METHODS = set(
     "append clear copy count endswith extend find get index insert isalnum isalpha isdigit islower isspace isupper "
     "items join keys ljust lower lstrip partition pop remove replace reverse rfind rjust rpartition rsplit rstrip "
-    "setdefault split splitlines startswith strip update upper values zfill bit_length add discard sort".split()
+    "setdefault split splitlines startswith strip update upper values zfill bit_length add discard sort isascii".split()
 )
 
 

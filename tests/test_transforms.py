@@ -10,7 +10,9 @@ from postvote.transforms import (
 )
 from postvote.unbeaten import find_verdict
 from postvote.vectors import all_vectors, first_vector, is_vector, last_vector
-from tests.reference import fallback, reserve, tried_vectors, tuple_count
+from tests.reference import (
+    fallback, reserve, right_index, right_list, right_number, tried_vectors, tuple_count,
+)
 from tests.support import (
     BIG, ODD_VALUES, crowded_instance, generator, many_crowded, many_instances, plain, some_instance, spoiled,
     wide_instance,
@@ -19,20 +21,6 @@ from tests.support import (
 I = ((1, 1), (((0, 1), 2),))
 K = ((1, 2, 1), (((0, 1), 2), ((0, 2), 2)))
 MORE = (*ODD_VALUES, -2, 3, 4, 9, 10, 11, "1", (1,), (1, 0), (True,), (False, 1), [0, 1], (0, 0, 1), (None,), ("0",))
-
-
-def right_number(value, most=BIG):
-    return type(value) is int and 1 <= value <= most
-
-
-def right_index(value, size):
-    return type(value) is int and 0 <= value < size
-
-
-def right_list(value, size):
-    if type(value) is not tuple or any(type(post) is not int for post in value):
-        return False
-    return all(0 <= post < size for post in value) and len(set(value)) == len(value)
 
 
 class TransformCase(unittest.TestCase):
